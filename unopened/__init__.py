@@ -1,0 +1,1 @@
+"""Unopened: nets of sums, delays and boxes that nobody has opened."""
