@@ -24,7 +24,7 @@ def order_of(row):
 
 def sum_of(one, other):
     """The sum of two polynomials."""
-    made = [0] * max(len(one), len(other))
+    made = [0 for _ in range(max(len(one), len(other)))]
     for k, value in enumerate(one):
         made[k] = value
     for k, value in enumerate(other):
@@ -34,7 +34,7 @@ def sum_of(one, other):
 
 def product_of(one, other):
     """The product of two polynomials."""
-    made = [0] * (len(one) + len(other))
+    made = [0 for _ in range(len(one) + len(other))]
     for k, left in enumerate(one):
         if left != 0:
             for j, right in enumerate(other):
@@ -121,9 +121,12 @@ def reduced(top, bottom):
     lower = trimmed(bottom)
     if not upper:
         return [], [1]
-    if len(upper) == 1 or len(lower) == 1:
+    # z is no factor of the bottom, so the zeros ahead in the top stay.
+    ahead = order_of(upper)
+    if len(upper) == ahead + 1 or len(lower) == 1:
         return upper, lower
-    return cancelled(upper, lower)
+    left, right = cancelled(upper[ahead:], lower)
+    return [0] * ahead + left, right
 
 
 def expanded(top, bottom, length):

@@ -38,6 +38,16 @@ def as_series(value):
     return Series([value]) if is_integer(value) else None
 
 
+def delayed(series, beats):
+    """A series late by any number of beats."""
+    return Series([0] * beats + series.top(), series.bottom())
+
+
+def hastened(series, beats):
+    """A series earlier by any number of beats that is at most its order."""
+    return Series(series.top()[beats:], series.bottom())
+
+
 class Series:
     """A quotient of two polynomials, always kept in its reduced form."""
 
@@ -115,14 +125,14 @@ class Series:
     def __lshift__(self, other):
         if not is_number(other, 0, MOST_BEATS):
             raise InvalidNumber(other)
-        return Series([0] * other + self._top, self._bottom)
+        return delayed(self, other)
 
     def __rshift__(self, other):
         if not is_number(other, 0, MOST_BEATS):
             raise InvalidNumber(other)
         if self.order is not None and self.order < other:
             raise TooEarly(self.order)
-        return Series(self._top[other:], self._bottom)
+        return hastened(self, other)
 
     def __eq__(self, other):
         return isinstance(other, Series) and self._top == other._top and self._bottom == other._bottom
