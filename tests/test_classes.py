@@ -139,6 +139,10 @@ class TestTables(TableCase):
         self.tells(text, [[head(3), (1, 1, 1, False)],
                           [head(4), head(6), (2, 1, 1, False), (5, 1, 1, False), (0, 2, 1, False)]])
 
+    def test_the_first_index_comes_first_even_if_it_is_later(self):
+        text = "u source ; m mix 1 u late 2 ; n mix 1 u late 1 ; a plain f m ; b plain g n ; c plain h u ; > a"
+        self.tells(text, [[head(0)], [head(1)], [head(2)]])
+
     def test_copies_later_than_what_a_series_can_be_shifted_by(self):
         late = Series([0] * 499 + [1])
         slow = Sheet([("plain", "f", (U * late,)), *[("plain", "f", (box(k, late),)) for k in range(7)]], [box(7)])
