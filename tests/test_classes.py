@@ -2,10 +2,11 @@
 
 import random
 
+from by_chance import two_nets_by
 from cases import OTHERS, Case
 from plain_free_run import first_difference
 from unopened.classes import classes, silent
-from unopened.errors import InvalidFact, Ring, TooMany, UnlikeKinds
+from unopened.errors import InvalidFact, UnlikeKinds
 from unopened.facts import groups
 from unopened.forms import Form
 from unopened.nets import Net
@@ -212,43 +213,12 @@ class TestTablesUnderFacts(TableCase):
 class TestAgainstFreeRuns(Case):
     """The widest table of many small nets, against free runs that know nothing of forms and tables."""
 
-    def net_by(self, chance, kinds):
-        sources, mine = ["u", "v"][:chance.randint(1, 2)], list("abcdef")[:chance.randint(2, 6)]
-        parts = [("source", wire) for wire in sources]
-        for at, wire in enumerate(mine):
-            earlier = sources + mine[:at]
-            if chance.random() < 0.5:
-                terms = []
-                for _ in range(chance.randint(0, 3)):
-                    delay = chance.choice([0, 0, 1, 1, 2])
-                    end = chance.choice(earlier if delay == 0 else sources + mine)
-                    terms.append((chance.choice([1, 1, 1, -1, -1, 2]), delay, end))
-                parts.append(("mix", wire, tuple(terms)))
-            else:
-                name = chance.choice("fgh")
-                ends = [chance.choice(earlier) for _ in range(2 if kinds[name] == "pair" else 1)]
-                parts.append((kinds[name], wire, name, *ends))
-        return Net(parts, [chance.choice(sources + mine)])
-
-    def facts_by(self, chance):
-        names = "fghx"
-        words = [chance.choice(["same", "same", "dead", "odd", "plain"]) for _ in range(chance.randint(0, 2))]
-        return [(word, *[chance.choice(names) for _ in range(2 if word == "same" else 1)]) for word in words]
-
     def test_alike_or_not(self):
         told = {True: 0, False: 0}
         for seed in range(600):
-            chance = random.Random(seed)
-            kind = chance.choice(["plain", "odd", "keep", "pair"])
-            kinds = {name: kind if seed % 3 else chance.choice(["plain", "odd", "keep", "pair"]) for name in "fgh"}
-            one = self.net_by(chance, kinds)
-            other = one.tapped(chance.choice(one.wires())) if seed % 2 else self.net_by(chance, kinds)
-            facts = self.facts_by(chance)
-            try:
-                found = groups([one, other], facts)
-                both = joined(one, other)
-            except (UnlikeKinds, TooMany, Ring):
-                continue
+            one, other, facts = two_nets_by(random.Random(seed))
+            found = groups([one, other], facts)
+            both = joined(one, other)
             paper = Alike(one, other, classes(both, facts=facts), silent(both, facts=facts), facts=facts)
             self.assertEqual(paper.holds(), first_difference(one, other, found, 12) is None, seed)
             told[paper.holds()] += 1

@@ -14,9 +14,11 @@ INTERFACE = {
     "names": "is_name is_number", "series": "Series", "texts": "text_of read_net", "nets": "Net",
     "boxes": "Box Plain Odd Keep Pair", "running": "run rows heard", "forms": "Form",
     "sheets": "Sheet sheet_of form_of joined", "facts": "is_fact groups keeps", "classes": "classes silent",
-    "papers": "Paper Alike Parted",
+    "papers": "Paper Alike Parted", "free": "FreeRun", "comparing": "compare are_alike first_beat least_facts",
+    "lean": "lean fewest moves", "claims": "is_silent relation lateness copies needless", "sessions": "Session",
+    "shelves": "Shelf", "pages": "write_page read_page", "desk": "Desk",
 }
-LIBRARY = {"math": {"gcd"}}
+LIBRARY = {"math": {"gcd"}, "itertools": {"combinations"}}
 BUILTINS = set(
     "len range enumerate zip min max sum abs sorted reversed int str bool list tuple dict set isinstance ord repr any "
     "all divmod super property staticmethod ValueError LookupError IndexError NotImplemented".split()
@@ -47,6 +49,10 @@ def functions_in(tree):
 
 FUNCTIONS = [(file, made, node) for file, tree in TREES.items() for made, node in functions_in(tree)]
 CLASSES = {node.name: node for tree in TREES.values() for node in tree.body if isinstance(node, ast.ClassDef)}
+
+
+def is_setter(node):
+    return any(isinstance(each, ast.Attribute) and each.attr == "setter" for each in node.decorator_list)
 
 
 def is_property(node):
@@ -223,7 +229,8 @@ class TestCode(unittest.TestCase):
                     self.fail(f"{file} {node.lineno}: dicts do here")
 
     def test_a_name_is_a_method_or_an_attribute(self):
-        methods = {node.name for _, made, node in FUNCTIONS if made is not None and not is_property(node)}
+        methods = {node.name for _, made, node in FUNCTIONS
+                   if made is not None and not is_property(node) and not is_setter(node)}
         assigned = {node.attr for tree in TREES.values() for node in ast.walk(tree)
                     if isinstance(node, ast.Attribute) and isinstance(node.ctx, ast.Store)}
         self.assertEqual(methods & assigned, set())

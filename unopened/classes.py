@@ -5,10 +5,11 @@ from unopened.sheets import as_sheet
 from unopened.tables import boxes_with_groups, widest_table
 
 
-def table_of_thing(thing, facts):
-    """The widest table of the boxes of a thing."""
+def sheet_and_table(thing, facts):
+    """The sheet of a thing and the widest table of its boxes."""
     found = groups([thing], facts)
-    return widest_table(boxes_with_groups(as_sheet(thing), found))
+    sheet = as_sheet(thing)
+    return sheet, widest_table(boxes_with_groups(sheet, found))
 
 
 def by_lag(member):
@@ -17,9 +18,8 @@ def by_lag(member):
     return (lag, index)
 
 
-def classes(thing, *, facts=()):
-    """The list of the classes, each one the list of its members (index, lag, sign, swapped)."""
-    table = table_of_thing(thing, facts)
+def classes_in(table):
+    """The classes of a table, each one the list of its members (index, lag, sign, swapped)."""
     members = {}
     for index in table:
         head, lag, sign, swapped = table[index]
@@ -27,7 +27,18 @@ def classes(thing, *, facts=()):
     return [sorted(members[head], key=by_lag) for head in sorted(list(members))]
 
 
+def silent_in(table, many):
+    """The ascending list of the indexes of the silent boxes of a table for so many boxes."""
+    return [index for index in range(many) if index not in table]
+
+
+def classes(thing, *, facts=()):
+    """The list of the classes, each one the list of its members (index, lag, sign, swapped)."""
+    _, table = sheet_and_table(thing, facts)
+    return classes_in(table)
+
+
 def silent(thing, *, facts=()):
     """The ascending list of the indexes of the silent boxes."""
-    table = table_of_thing(thing, facts)
-    return [index for index in range(len(as_sheet(thing))) if index not in table]
+    sheet, table = sheet_and_table(thing, facts)
+    return silent_in(table, len(sheet))
