@@ -2,6 +2,7 @@
 
 import itertools
 import random
+from types import SimpleNamespace
 
 from by_chance import KINDS, net_by, opened_by, signals_by, two_nets_by
 from cases import OTHERS, Case
@@ -12,7 +13,7 @@ from unopened.errors import InvalidFact, TooMany, UnlikeKinds, UnlikeOuts
 from unopened.facts import groups
 from unopened.forms import Form
 from unopened.nets import Net
-from unopened.opening import are_apart, numbers_by, opened_box
+from unopened.opening import are_apart, numbers_by, numbers_for, opened_box
 from unopened.papers import Alike, Parted
 from unopened.running import run
 from unopened.series import Series
@@ -229,6 +230,18 @@ class TestNumbers(Case):
         self.same(are_apart("pair", {(one, other): 2, ((), other): 3}, [3, 3]), False)
         self.same(are_apart("keep", {(None, one): 2, (2, ()): 3, (2, other): 4}, [3, 4]), True)
         self.same(are_apart("keep", {(None, one): 2, (2, ()): 3, (2, other): 4}, [3, 3]), False)
+
+    def test_numbers_that_keep_apart(self):
+        # The first numbers are 1, 21, 185: two values become equal, or one becomes 0, or what is parted does.
+        one, two, three = ((0, 1),), ((1, 1),), ((0, 1), (1, -1), (2, 1))
+        for kind, asked, parted in [("plain", {(two,): 2, (((0, 21),),): 3}, one),
+                                    ("odd", {(((0, 21), (1, -1)),): 2}, one),
+                                    ("odd", {(one,): 2}, ((0, 21), (1, -1))),
+                                    ("keep", {(None, ((0, 185), (2, -1))): 1}, three)]:
+            live = SimpleNamespace(many=4, asked=[{(one,): 0} if kind != "keep" else {(None, one): 0}, asked])
+            found = [(("e",), kind, False), (("f",), kind, False)]
+            self.assertEqual(numbers_for(live, found, parted), numbers_by(2, 4))
+            self.assertEqual(numbers_for(live, found[:1], one), numbers_by(1, 4))
 
     def test_rows_of_opened_keeps(self):
         one, other = ((0, 1),), ((0, 1), (1, -2))

@@ -19,6 +19,8 @@ INTERFACE = {
     "shelves": "Shelf", "pages": "write_page read_page", "desk": "Desk",
 }
 LIBRARY = {"math": {"gcd"}, "itertools": {"combinations"}}
+# Interactive examples bind the name _ there, too.
+TAKEN = set(vars(builtins)) - {"_"}
 BUILTINS = set(
     "len range enumerate zip min max sum abs sorted reversed int str bool list tuple dict set isinstance ord repr any "
     "all divmod super property staticmethod ValueError LookupError IndexError NotImplemented".split()
@@ -203,10 +205,10 @@ class TestCode(unittest.TestCase):
                 for name in names:
                     self.assertNotIn(name, NOWHERE, file)
                 if isinstance(node, ast.Name) and isinstance(node.ctx, ast.Store):
-                    self.assertFalse(node.id in vars(builtins), f"{file} {node.id}")
+                    self.assertFalse(node.id in TAKEN, f"{file} {node.id}")
                 if isinstance(node, (ast.arg, ast.FunctionDef, ast.ClassDef)):
-                    self.assertFalse(names[0] in vars(builtins), f"{file} {names[0]}")
-                if isinstance(node, ast.Name) and isinstance(node.ctx, ast.Load) and node.id in vars(builtins):
+                    self.assertFalse(names[0] in TAKEN, f"{file} {names[0]}")
+                if isinstance(node, ast.Name) and isinstance(node.ctx, ast.Load) and node.id in TAKEN:
                     self.assertIn(node.id, BUILTINS, file)
 
     def test_local_names_are_no_imports_or_classes(self):
@@ -234,6 +236,15 @@ class TestCode(unittest.TestCase):
         assigned = {node.attr for tree in TREES.values() for node in ast.walk(tree)
                     if isinstance(node, ast.Attribute) and isinstance(node.ctx, ast.Store)}
         self.assertEqual(methods & assigned, set())
+
+    def test_properties_without_setters_are_not_assigned(self):
+        setters = {node.name for _, _, node in FUNCTIONS if is_setter(node)}
+        only_read = {node.name for _, _, node in FUNCTIONS if is_property(node)} - setters
+        self.assertEqual([sorted(setters), "beats" in only_read], [["limit"], True])
+        for file, tree in TREES.items():
+            for node in ast.walk(tree):
+                if isinstance(node, ast.Attribute) and isinstance(node.ctx, ast.Store):
+                    self.assertNotIn(node.attr, only_read, f"{file} {node.lineno}")
 
     def test_the_name_of_a_generator_is_no_other_one(self):
         names = [node.name for _, _, node in FUNCTIONS]

@@ -221,6 +221,36 @@ class TestParts(SessionCase):
         self.same(live.past("b"), [0, 0, 70, 0, 80, 90])
 
 
+class TestRows(SessionCase):
+    def test_what_boxes_are_asked(self):
+        asked = []
+
+        class Ear(Plain):
+            def fits(self, kind):
+                return True
+
+            def reply(self, row):
+                asked.append(row)
+                return 1
+
+        for kind, ends, rows in [
+            ("plain", "u", [[1], [1, 0], [1, 0, 2]]), ("odd", "u", [[1], [1, 0], [1, 0, 2]]),
+            ("keep", "u", [[1], [1, 0], [1, 0, 2]]), ("pair", "u v",
+                                                      [[(1, 5)], [(1, 5), (0, 6)], [(1, 5), (0, 6), (2, 0)]]),
+        ]:
+            net = Net.read(f"u source ; v source ; a {kind} f {ends} ; > a")
+            live = Session(net, {"f": Ear()})
+            live.do(("beat", {"u": 1, "v": 5}), ("beat", {"v": 6}), ("beat", {"u": 2}))
+            self.same(asked, rows)
+            asked.clear()
+            run(net, {"u": [1, 0, 2], "v": [5, 6]}, {"f": Ear()}, 3)
+            self.same(asked, rows)
+            asked.clear()
+            live.do(("put", (kind, "a", "f", *ends.split())), ("beat", {"v": 7}))
+            self.same(asked, [[(0, 7)] if kind == "pair" else [0]])
+            asked.clear()
+
+
 class TestErrors(SessionCase):
     def test_values_that_are_no_deeds(self):
         part = ("plain", "b", "f", "u")
@@ -393,6 +423,20 @@ class TestSteps(SessionCase):
         live.undo()
         live.undo()
         self.same([twin.heard(), live.heard(), live.past("u")], [[[16]], [[1]], [1]])
+
+
+    def test_twins_have_steps_of_their_own(self):
+        live = session()
+        live.do(*beats(1))
+        live.do(*beats(2))
+        live.undo()
+        twin = live.twin()
+        twin.redo()
+        self.same([live.history(), twin.history()], [(1, 1), (2, 0)])
+        live.redo()
+        twin.undo()
+        twin.undo()
+        self.same([live.history(), twin.history(), live.heard(), twin.heard()], [(2, 0), (0, 2), [[1], [3]], []])
 
 
 class PlainSession:

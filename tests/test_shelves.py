@@ -6,8 +6,7 @@ from cases import OTHERS, Case
 from unopened.comparing import are_alike
 from unopened.errors import (
     Circular, DuplicateName, Full, InUse, InvalidCommand, InvalidFact, InvalidLimit, InvalidName, InvalidText,
-    InvalidUse,
-    Missing, NothingLeft, Ring, TooMany, UnknownName, UnknownPiece, UnlikeKinds, UnlikeOuts, UnopenedError,
+    InvalidUse, Missing, NothingLeft, Ring, TooMany, UnknownName, UnknownPiece, UnlikeKinds, UnlikeOuts, UnopenedError,
 )
 from unopened.nets import Net
 from unopened.shelves import Shelf
@@ -118,10 +117,10 @@ class TestInterface(ShelfCase):
     def test_answers_are_new(self):
         shelf = shelf_with(put("a"), put("b", using("a")), facts(("odd", "f")))
         shelf.alike("a", "b")
-        before = state(shelf)
         for answer in [shelf.pieces(), shelf.users("a"), shelf.facts(), shelf.kept(), shelf.net_of("b").parts()]:
             answer.clear()
-        self.same(state(shelf), before)
+        self.same([shelf.pieces(), shelf.users("a"), shelf.facts(), shelf.kept(), len(shelf.net_of("b"))],
+                  [["a", "b"], ["b"], [("odd", "f")], [("a", "b")], 2])
 
 
 class TestCommands(ShelfCase):
@@ -508,6 +507,18 @@ class TestTwins(ShelfCase):
         twin.undo()
         twin.undo()
         self.same([twin.pieces(), shelf.pieces(), shelf.history()], [[], ["a", "b", "c"], (2, 0)])
+
+    def test_twins_have_steps_of_their_own(self):
+        shelf = shelf_with(put("a"))
+        shelf.apply(put("b"))
+        shelf.undo()
+        twin = shelf.twin()
+        twin.redo()
+        self.same([shelf.history(), twin.history()], [(1, 1), (2, 0)])
+        shelf.redo()
+        twin.undo()
+        twin.undo()
+        self.same([shelf.history(), twin.history(), shelf.pieces(), twin.pieces()], [(2, 0), (0, 2), ["a", "b"], []])
 
     def test_a_twin_of_a_shelf_above_its_limit(self):
         shelf = shelf_with(put("a"), put("b"))

@@ -57,12 +57,12 @@ class Scene:
     Attributes: plan; results, the Past of the lists of the outputs.
     """
 
-    def __init__(self, plan, pasts, starts, results):
+    def __init__(self, plan, pasts, ears, results):
         self.plan = plan
         self.results = results
         self._pasts = pasts
-        # The beats at which boxes were put, and have heard their ends from then on; 0 for those that are not named.
-        self._starts = starts
+        # For each box what it has heard at its ends since its part was put.
+        self._ears = ears
 
     def past_of(self, wire):
         """The list of the values of a wire so far."""
@@ -71,43 +71,36 @@ class Scene:
     def run_on(self, values):
         """What follows when the net runs one beat; a source that the dict values does not name has the value 0."""
         now = {}
-        for part in self.plan.turns:
-            now[part[1]] = self._value_of(part, values, now)
+        ears = {}
+        for kind, wire, *items in self.plan.turns:
+            if kind == "source":
+                now[wire] = values.get(wire, 0)
+            elif kind == "mix":
+                now[wire] = sum([factor * self._value_at(end, delay, now) for factor, delay, end in items[0]])
+            else:
+                ends = [now[end] for end in items[1:]]
+                ears[wire] = self._ears[wire].longer(tuple(ends) if kind == "pair" else ends[0])
+                now[wire] = self.plan.by_name[items[0]].reply(ears[wire].since(0))
         pasts = {wire: self._pasts[wire].longer(now[wire]) for wire in now}
         results = self.results.longer([now[wire] for wire in self.plan.present.outs()])
-        return Scene(self.plan, pasts, self._starts, results)
+        return Scene(self.plan, pasts, ears, results)
 
     def with_part(self, part):
         """The same with this part in the place of the one that sets the same wire, or behind the last one."""
         plan = self._checked_plan(self.plan.present.put(part))
-        length = self.results.length
-        pasts = {part[1]: Past([0] * length), **self._pasts}
-        return Scene(plan, pasts, {**self._starts, part[1]: length}, self.results)
+        pasts = {part[1]: Past([0] * self.results.length), **self._pasts}
+        return Scene(plan, pasts, {**self._ears, part[1]: Past([])}, self.results)
 
     def without(self, wire):
         """The same without the part that sets this wire."""
         plan = self._checked_plan(self.plan.present.drop(wire))
         pasts = {each: self._pasts[each] for each in plan.present.wires()}
-        return Scene(plan, pasts, self._starts, self.results)
+        return Scene(plan, pasts, self._ears, self.results)
 
     def _checked_plan(self, net):
         """The plan for another net with the same opened boxes."""
         check_opened(net.kinds(), self.plan.by_name)
         return Plan(net, self.plan.by_name)
-
-    def _value_of(self, part, values, now):
-        """The value of the wire of a part at the next beat, by those that are known at it."""
-        kind, wire, *items = part
-        if kind == "source":
-            return values.get(wire, 0)
-        if kind == "mix":
-            return sum([factor * self._value_at(end, delay, now) for factor, delay, end in items[0]])
-        box = self.plan.by_name[items[0]]
-        if kind == "pair":
-            return box.reply([(now[items[1]], now[items[2]])])
-        # The other kinds look at this beat alone.
-        before = self._pasts[items[1]].since(self._starts.get(wire, 0)) if kind == "keep" else []
-        return box.reply([*before, now[items[1]]])
 
     def _value_at(self, wire, delay, now):
         """The value of a wire some beats ahead of the next one."""
@@ -116,4 +109,5 @@ class Scene:
 
 def first_scene(net, opened):
     """A net ahead of its first beat, with opened boxes that are there and fit."""
-    return Scene(Plan(net, opened), {wire: Past([]) for wire in net.wires()}, {}, Past([]))
+    wires = net.wires()
+    return Scene(Plan(net, opened), {wire: Past([]) for wire in wires}, {wire: Past([]) for wire in wires}, Past([]))
