@@ -4,7 +4,7 @@ import copy
 import inspect
 import random
 
-from by_chance import BOXES, KINDS, kinds_by, net_by, signals_by
+from by_chance import BOXES, kinds_by, net_by, signals_by
 from cases import OTHERS, Case
 from unopened.boxes import Box, Keep, Odd, Pair, Plain
 from unopened.errors import (
